@@ -1,0 +1,1 @@
+"""Shrunk rooms: what several tables lose together."""
