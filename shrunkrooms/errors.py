@@ -90,6 +90,9 @@ class InvalidTeam(RoomError):
 class DividedByZero(RoomError):
     """A number was to be divided by 0."""
 
+    def __init__(self):
+        pass
+
 
 class InvalidChain(RoomError):
     """No chain of the team."""
@@ -213,41 +216,71 @@ class NameTaken(StateError):
 class NotFair(StateError):
     """The team is not fair, or not even."""
 
+    def __init__(self):
+        pass
+
 
 class NotFull(StateError):
     """The team is not full."""
+
+    def __init__(self):
+        pass
 
 
 class NotSimple(StateError):
     """A team is not simple."""
 
+    def __init__(self):
+        pass
+
 
 class NotSquare(StateError):
     """A table, or a team, is not square."""
+
+    def __init__(self):
+        pass
 
 
 class NothingLeft(StateError):
     """No place, or no table, would be left."""
 
+    def __init__(self):
+        pass
+
 
 class NothingToRedo(StateError):
     """No deed was taken back that can be done again."""
+
+    def __init__(self):
+        pass
 
 
 class NothingToUndo(StateError):
     """There is no deed to take back."""
 
+    def __init__(self):
+        pass
+
 
 class UnlikeMany(StateError):
     """There are not as many of the one as of the other."""
+
+    def __init__(self):
+        pass
 
 
 class UnlikeTeams(StateError):
     """Both do not belong to equal teams."""
 
+    def __init__(self):
+        pass
+
 
 class UnlikeWidths(StateError):
     """Both are not alike wide."""
+
+    def __init__(self):
+        pass
 
 
 class TooMany(LimitError):

@@ -66,11 +66,12 @@ class Errors(unittest.TestCase):
                         self.assertIs(getattr(error, parameter), named[parameter], name)
                     self.assertIsInstance(str(error), str)
 
-    def test_each_parameter_is_wanted(self):
+    def test_each_parameter_is_wanted_and_no_more(self):
         for name, (_, parameters) in LISTED.items():
             if parameters:
                 with self.assertRaises(TypeError):
                     getattr(errors, name)(*([1] * (len(parameters) - 1)))
+            if parameters is not None:
                 with self.assertRaises(TypeError):
                     getattr(errors, name)(*([1] * (len(parameters) + 1)))
 
