@@ -43,6 +43,12 @@ def are_tables(value, low, high, most):
     return all([len(table) == len(value[0]) and len(table[0]) == len(value[0][0]) for table in value])
 
 
+def want_count(value):
+    """Raises InvalidMany unless the value is a COUNT."""
+    if not is_count(value):
+        raise InvalidMany(value)
+
+
 def want_many(value, low, high):
     """Raises InvalidMany unless the value is a COUNT from low to high."""
     if not is_between(value, low, high):

@@ -41,7 +41,7 @@ def copies(team, room, many):
     want_team(team)
     want_room(team, room)
     want_many(many, 1, MOST_COPIES)
-    return _copies_of(told_room(team, room), many)
+    return copied(told_room(team, room), many)
 
 
 def pieces(grid, many):
@@ -49,7 +49,7 @@ def pieces(grid, many):
     want_grid(grid)
     if not is_between(many, 1, MOST) or (len(grid) > 0 and len(grid[0]) % many != 0):
         raise InvalidMany(many)
-    return span_steps([piece for row in as_rows(grid) for piece in _pieces_of(row, many)])
+    return span_steps([piece for row in as_rows(grid) for piece in cut(row, many)])
 
 
 def is_kept_small(team, helpers, room):
@@ -57,8 +57,8 @@ def is_kept_small(team, helpers, room):
     tall, wide = sides(team, helpers)
     far = made(team, room)
     table = crossed(team, helpers)
-    images = [led(table, row) for row in _copies_of(told_room(team, room), wide)]
-    return are_made(far, [piece for row in images for piece in _pieces_of(row, tall)])
+    images = [led(table, row) for row in copied(told_room(team, room), wide)]
+    return are_made(far, [piece for row in images for piece in cut(row, tall)])
 
 
 def want_helpers(team, helpers):
@@ -73,7 +73,7 @@ def _stacked(tables):
             for row in range(len(tables[0]))]
 
 
-def _copies_of(told, many):
+def copied(told, many):
     """The steps of the copies of a told room."""
     noughts = [Ratio(0)] * (many - 1)
     rows = []
@@ -88,6 +88,6 @@ def _moved(row, by):
     return [Ratio(0)] * by + row[:len(row) - by]
 
 
-def _pieces_of(row, many):
+def cut(row, many):
     """The pieces of a list."""
     return [row[start::many] for start in range(many)]

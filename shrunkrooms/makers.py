@@ -107,7 +107,7 @@ def pattern_team(tall, wide, places):
     """The team that has for each place the table with 1 there, 0 else."""
     want_many(tall, 1, MOST_PLACES)
     want_many(wide, 1, MOST_PLACES)
-    if not _is_pattern(tall, wide, places):
+    if not is_pattern(tall, wide, places):
         raise InvalidPlaces(places)
     return Team([[[int((row, place) == spot) for place in range(wide)] for row in range(tall)] for spot in places])
 
@@ -136,16 +136,16 @@ def _want_letters(table, side):
         raise InvalidLetters(table)
 
 
-def _is_pattern(tall, wide, places):
+def is_pattern(tall, wide, places):
     """Whether the value is a rising list of 1 to 16 unlike places of a table of these sides."""
     if not is_list(places) or not 1 <= len(places) <= MOST_TABLES:
         return False
-    if not all([_is_place(tall, wide, place) for place in places]):
+    if not all([is_place(tall, wide, place) for place in places]):
         return False
     return all([place < later for place, later in zip(places, places[1:])])
 
 
-def _is_place(tall, wide, place):
+def is_place(tall, wide, place):
     """Whether the value is a tuple of two COUNTS below these sides."""
     if not isinstance(place, tuple) or len(place) != 2:
         return False

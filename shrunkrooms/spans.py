@@ -1,5 +1,6 @@
 """What lists of Ratios make, told by steps. Nothing is checked here."""
 
+from shrunkrooms.lists import led
 from shrunkrooms.ratios import Ratio
 from shrunkrooms.wholes import rank_of, reduced, settled, stepped, whole
 
@@ -13,6 +14,11 @@ def span_steps(rows):
     """The steps of the rows."""
     found = reduced([whole(row) for row in rows])
     return [[Ratio(number, found[head][head]) for number in found[head]] for head in found]
+
+
+def made_steps(tables, rows):
+    """The steps of all that the tables do to the rows."""
+    return span_steps([led(table, row) for table in tables for row in rows])
 
 
 def heads_of(steps):

@@ -3,7 +3,7 @@
 from shrunkrooms.checks import are_tables, is_between, is_numbers
 from shrunkrooms.errors import InvalidList, InvalidPlace, InvalidRoom, InvalidTables, InvalidTeam
 from shrunkrooms.lists import as_row, as_rows, led, turned
-from shrunkrooms.spans import level_steps, span_rank, span_steps
+from shrunkrooms.spans import level_steps, made_steps, span_rank, span_steps
 from shrunkrooms.steps import is_grid
 
 MOST_TABLES = 16
@@ -70,15 +70,13 @@ def made(team, room):
     """What the team makes of a room: the steps of all that its tables do to the room's lists."""
     want_team(team)
     want_room(team, room)
-    rows = as_rows(room)
-    return span_steps([led(table, row) for table in team.tables() for row in rows])
+    return made_steps(team.tables(), as_rows(room))
 
 
 def before(team, far):
     """The room of all lists that each table leads into the far room."""
     want_team(team)
-    if not _is_free_grid(far, team.tall):
-        raise InvalidRoom(far)
+    want_far(team, far)
     # A list is led into the far room if what is led there has nothing in common with the far room's level lists.
     level = level_steps(as_rows(far), team.tall)
     turns = [turned(table) for table in team.tables()]
@@ -101,6 +99,12 @@ def want_room(team, room):
     """Raises InvalidRoom unless the value is a room of the team."""
     if not _is_free_grid(room, team.wide):
         raise InvalidRoom(room)
+
+
+def want_far(team, far):
+    """Raises InvalidRoom unless the value is a far room of the team."""
+    if not _is_free_grid(far, team.tall):
+        raise InvalidRoom(far)
 
 
 def want_place(team, place):

@@ -58,9 +58,84 @@ PLAIN = '''
 [2, True, True, False, ['-2', '0', '3']]
 '''
 
+WONG = '''
+>>> from shrunkrooms.makers import sign_team
+>>> from shrunkrooms.teams import Team
+>>> from shrunkrooms.wong import back, stays, wong
+>>> narrow = Team([[[1, 0, 0], [0, 0, 1]], [[0, 1, 0], [0, 0, 0]]])
+>>> [len(wong(narrow, [[[1]], [[0]]])), len(back(narrow, [[[1]], [[0]]], [])), stays(narrow, [[[1]], [[0]]]), stays(sign_team(), [[[1]], [[1]], [[2]]])]
+[2, 1, True, False]
+'''
+
+LACKS = '''
+>>> from shrunkrooms.lacks import free_rank, is_free_helpers, is_full, is_loss_room, lack
+>>> [lack(narrow), free_rank(narrow), lack(sign_team()), is_full(sign_team()), is_full(narrow)]
+[1, 2, 0, True, False]
+>>> [is_loss_room(narrow, 1, [[0, 1, 0], [0, 0, 1]]), is_free_helpers(narrow, 2, [[[1]], [[0]]]), is_loss_room(narrow, 0, []), is_free_helpers(sign_team(), 3, [[[1]], [[1]], [[2]]])]
+[False, True, True, False]
+'''
+
+MOST = '''
+>>> from shrunkrooms.most import greatest_room, greatest_within, is_most, least_room, least_with, swelling, three
+>>> from shrunkrooms.teams import Team
+>>> pair = Team([[[1, 0, 0], [0, 0, 0], [0, 0, 1]], [[0, 1, 0], [0, 0, 0], [0, 0, 0]]])
+>>> [[str(number) for number in row] for row in least_room(pair)] + [len(greatest_room(pair)), three(pair), is_most(pair, [[1, 1, 0]]), len(least_with(pair, [[1, 0, 2]])), greatest_within(pair, [[1, 0, 0], [0, 0, 1]]), swelling(pair, [[1, 0, 0]], [[0, 1, 0]])]
+[['1', '0', '0'], ['0', '1', '0'], 3, ((1, 2), (1, 1), (1, 0)), False, 3, None, (0, 0, 1, 0)]
+'''
+
+TIGHT = '''
+>>> from shrunkrooms.makers import pattern_team, sign_team
+>>> from shrunkrooms.ratios import Ratio
+>>> from shrunkrooms.tight import is_tight, least_tight, tight_room
+>>> corner = pattern_team(2, 2, [(0, 0), (0, 1), (1, 1)])
+>>> [is_tight(corner, [[1, 0]]), is_tight(corner, [[0, 1]]), len(least_tight(corner, [[0, 1]])), tight_room(corner) == [[Ratio(1), Ratio(0)]], tight_room(sign_team())]
+[True, False, 2, True, None]
+'''
+
+BLOCKS = '''
+>>> from shrunkrooms.blocks import block_sizes, chain, is_chain, is_simple, pieces_of
+>>> [is_simple(corner), is_simple(sign_team()), block_sizes(corner), is_chain(corner, [[], [[1, 0]], [[1, 0], [0, 1]]]), is_chain(corner, [[], [[1, 0], [0, 1]]])]
+[False, True, [1, 1], True, False]
+>>> [piece.tables()[0] == [[Ratio(1)]] for piece in pieces_of(corner, chain(corner))]
+[True, False]
+'''
+
+ALIKE = '''
+>>> from shrunkrooms.alike import alike, is_alike
+>>> first, last = pieces_of(corner, chain(corner))
+>>> [alike(first, last), is_alike(first, first, ([[2]], [[2]])), is_alike(first, first, ([[2]], [[1]])), is_alike(corner, corner, ([[1, 5], [0, 1]], [[1, 5], [0, 1]]))]
+[None, True, False, False]
+'''
+
+SLOPES = '''
+>>> from shrunkrooms.makers import sign_team
+>>> from shrunkrooms.slopes import slope_chain, slopes
+>>> from shrunkrooms.teams import Team
+>>> uneven = Team([[[1, 0, 0], [0, 0, 1]], [[0, 1, 0], [0, 0, 0]]])
+>>> [slopes(uneven), [len(room) for room in slope_chain(uneven)], slopes(sign_team()), slopes(Team([[[0, 0]], [[0, 1]]]))]
+[[(1, 2), (1, 1)], [0, 2, 3], [(3, 3)], [(0, 1), (1, 1)]]
+'''
+
+FAIR = '''
+>>> from shrunkrooms.fair import fair_helpers, is_fair, is_fair_helpers, is_piece_helpers, is_unfair_room, piece_helpers, unfair_room
+>>> [is_fair(uneven, 2, 1), is_fair(uneven, 1, 1), is_unfair_room(uneven, 1, 1, [[1, 0, 0], [0, 1, 0]]), is_unfair_room(uneven, 1, 1, [[1, 0, 0]]), unfair_room(uneven, 2, 1)]
+[True, False, True, False, None]
+>>> [is_piece_helpers(Team([[[1], [0]], [[0], [1]]]), [[[1, 0]], [[0, 1]]]), len(piece_helpers(sign_team())), is_fair_helpers(uneven, 2, 1, fair_helpers(uneven, 2, 1)), is_fair_helpers(uneven, 1, 1, [[[1]], [[1]]])]
+[True, 3, True, False]
+'''
+
+BOARDS = '''
+>>> from shrunkrooms.boards import cover, is_cover, is_rooks, rooks
+>>> hook = [(0, 0), (0, 1), (0, 2), (1, 0), (2, 0)]
+>>> [len(rooks(3, 3, hook)), cover(3, 3, hook), is_rooks(3, 3, hook, [(2, 0), (0, 1)]), is_rooks(3, 3, hook, [(0, 0)]), is_cover(3, 3, hook, ([0, 1, 2], []))]
+[2, ([0], [0]), True, False, False]
+'''
+
 # Names stand for what they were in the last example that gave them: so all run behind one another.
 EXAMPLES = [("ratios", RATIOS, 2), ("steps", STEPS, 3), ("teams", TEAMS, 3), ("makers", MAKERS, 4), ("tables", TABLES, 3),
-            ("helpers", HELPERS, 5), ("plain", PLAIN, 2)]
+            ("helpers", HELPERS, 5), ("plain", PLAIN, 2),
+            ("wong", WONG, 5), ("lacks", LACKS, 3), ("most", MOST, 4), ("tight", TIGHT, 5),
+            ("blocks", BLOCKS, 3), ("alike", ALIKE, 3), ("slopes", SLOPES, 5), ("fair", FAIR, 3), ("boards", BOARDS, 3)]
 
 
 class Examples(unittest.TestCase):

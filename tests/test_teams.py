@@ -8,8 +8,8 @@ from shrunkrooms.ratios import Ratio
 from shrunkrooms.steps import joined, level, shared, steps
 from shrunkrooms.teams import Team, before, does, is_room, loss, made, told_room
 from tests.drawn_teams import NO_TEAMS, teams
-from tests.tools import (NO_COUNTS, NO_LISTS, NO_TABLES, Case, Draw, about, makes, product, ratios, reference_steps,
-                         tupled, unit)
+from tests.tools import (NO_COUNTS, NO_LISTS, NO_TABLES, Case, Draw, about, makes, product, ratios, reference_level,
+                         reference_steps, tupled, unit)
 
 NARROW = Team([[[1, 0], [0, 0]], [[0, 1], [0, 0]]])
 
@@ -266,18 +266,6 @@ def reference_before(team, far):
     total = wide + size * team.many
     found = reference_level(equations, total)
     return reference_steps([row[:wide] for row in found])
-
-
-def reference_level(rows, wide):
-    told = reference_steps(rows)
-    heads = [[number.sign != 0 for number in row].index(True) for row in told]
-    found = []
-    for free in [place for place in range(wide) if place not in heads]:
-        row = [Ratio(int(place == free)) for place in range(wide)]
-        for at, head in enumerate(heads):
-            row[head] = -told[at][free]
-        found.append(row)
-    return found
 
 
 if __name__ == "__main__":

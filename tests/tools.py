@@ -108,6 +108,19 @@ def reference_rank(rows):
     return len(reference_steps(rows))
 
 
+def reference_level(rows, wide):
+    """The lists whose products with each row add up to 0, one for each place that is no head."""
+    told = reference_steps(rows)
+    heads = [[number.sign != 0 for number in row].index(True) for row in told]
+    found = []
+    for free in [place for place in range(wide) if place not in heads]:
+        row = [Ratio(int(place == free)) for place in range(wide)]
+        for at, head in enumerate(heads):
+            row[head] = -told[at][free]
+        found.append(row)
+    return found
+
+
 def makes(rows, others):
     """Whether the others are made of the rows."""
     return reference_rank(list(rows) + list(others)) == reference_rank(rows)
@@ -132,6 +145,25 @@ def tupled(value):
     if isinstance(value, list):
         return tuple(tupled(part) for part in value)
     return value
+
+
+def other_kinds(value):
+    """The same worth in other kinds: Ratios for integers and back, tuples for lists and back."""
+    if isinstance(value, (list, tuple)):
+        parts = [other_kinds(part) for part in value]
+        return tuple(parts) if isinstance(value, list) else parts
+    if isinstance(value, Ratio):
+        return value.top if value.is_whole else value
+    return Ratio(value)
+
+
+def digits_in(value):
+    """The most digits of a number within told lists."""
+    if isinstance(value, (list, tuple)):
+        return max([digits_in(part) for part in value] + [0])
+    if isinstance(value, Ratio):
+        return max(len(str(abs(value.top))), len(str(value.bottom)))
+    return len(str(abs(value)))
 
 
 def lists_in(value):
