@@ -6,10 +6,9 @@ from shrunkrooms.spans import heads_of, span_steps
 
 
 def lifted_within(rows, told):
-    """The room that the rows tell within a told room."""
-    if len(rows) == 0:
-        return []
-    return span_steps(multiplied(rows, told))
+    """The room that rows of steps tell within a told room."""
+    # Steps of steps are steps.
+    return multiplied(rows, told)
 
 
 def lifted_behind(rows, told, wide):

@@ -9,7 +9,7 @@ from shrunkrooms.makers import beside, in_letters, pattern_team, sign_team, upri
 from shrunkrooms.ratios import Ratio
 from shrunkrooms.tables import table_rank, undone
 from shrunkrooms.teams import Team
-from tests.drawn_teams import NO_TEAMS, SIMPLE, draw_team, in_drawn_letters, teams
+from tests.drawn_teams import NO_TEAMS, SIMPLE, draw_team, full_teams, in_drawn_letters, teams
 from tests.test_blocks import CORNER, FOURS
 from tests.test_tight import NOT_FULL
 from tests.tools import NO_TABLES, Case, Draw, digits_in, other_kinds, product, ratios, tupled, unit
@@ -165,7 +165,8 @@ class Errors(Case):
 
     def test_teams_that_are_not_simple(self):
         one, four = Team([[[1]]]), FOURS[0]
-        for team in [CORNER, Team([unit(2)])] + NOT_FULL:
+        three = [team for team, there, parts, apart in full_teams(197) if team.wide == 3 and len(parts) > 1]
+        for team in [CORNER, Team([unit(2)]), Team([unit(3)])] + three[::4] + NOT_FULL:
             for other in (one, sign_team(), four, team, Team([[[1]]] * 16)):
                 # Ahead of unlike many, and of too many places.
                 self.fails(NotSimple, {}, alike, team, other)

@@ -11,7 +11,7 @@ from shrunkrooms.most import greatest_room, greatest_within, is_most, least_room
 from shrunkrooms.ratios import Ratio
 from shrunkrooms.steps import joined, level, shared
 from shrunkrooms.teams import Team, loss, made, told_room
-from tests.drawn_teams import NO_TEAMS, in_drawn_letters, led_rooms, lossy_team, teams, teams_of_all_sides
+from tests.drawn_teams import NO_TEAMS, in_drawn_letters, led_rooms, teams, teams_of_all_sides
 from tests.test_teams import no_rooms
 from tests.tools import Case, Draw, digits_in, makes, other_kinds, product, ratios, reference_steps, tupled, unit
 

@@ -9,7 +9,7 @@ from shrunkrooms.plain import is_plain_paper, mixture, plain_paper, plain_rank
 from shrunkrooms.ratios import Ratio
 from shrunkrooms.teams import Team, loss
 from tests.drawn_teams import NO_TEAMS, teams
-from tests.tools import NO_LISTS, Case, Draw, product, ratios, reference_rank, tupled, unit
+from tests.tools import NO_LISTS, Case, Draw, product, ratios, reference_rank, unit
 
 NARROW = Team([[[1, 0], [0, 0]], [[0, 1], [0, 0]]])
 FEW = [team for team in teams() if team.many <= 6]
