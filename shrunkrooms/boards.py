@@ -1,6 +1,6 @@
 """Boards: rooks that spare one another, and covers of all places."""
 
-from shrunkrooms.checks import is_between, is_list, want_many
+from shrunkrooms.checks import is_list, is_lot, want_many
 from shrunkrooms.errors import InvalidPlaces
 from shrunkrooms.makers import is_pattern, is_place
 
@@ -37,7 +37,7 @@ def is_cover(tall, wide, places, value):
     if not isinstance(value, tuple) or len(value) != 2:
         return False
     rows, columns = value
-    if not _are_unlike(rows, tall) or not _are_unlike(columns, wide):
+    if not is_lot(rows, tall) or not is_lot(columns, wide):
         return False
     if not all([row in rows or column in columns for row, column in places]):
         return False
@@ -68,13 +68,6 @@ def _lots(many):
 def _cover_size(value):
     """How many rows and columns there are together."""
     return len(value[0]) + len(value[1])
-
-
-def _are_unlike(value, many):
-    """Whether the value is a list of unlike counts below so many."""
-    if not is_list(value) or not all([is_between(count, 0, many - 1) for count in value]):
-        return False
-    return len(set(value)) == len(value)
 
 
 def _want_board(tall, wide, places):

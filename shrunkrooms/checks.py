@@ -43,6 +43,13 @@ def are_tables(value, low, high, most):
     return all([len(table) == len(value[0]) and len(table[0]) == len(value[0][0]) for table in value])
 
 
+def is_lot(value, many):
+    """Whether the value is a list of unlike COUNTS below so many."""
+    if not is_list(value) or not all([is_between(count, 0, many - 1) for count in value]):
+        return False
+    return len(set(value)) == len(value)
+
+
 def want_count(value):
     """Raises InvalidMany unless the value is a COUNT."""
     if not is_count(value):

@@ -114,11 +114,7 @@ def pattern_team(tall, wide, places):
 
 def pairs_team(fars, nears):
     """The team that has for each position the table of all products of the far list and the near one."""
-    for lists in (fars, nears):
-        if not are_lists(lists, MOST_TABLES, MOST_PLACES):
-            raise InvalidLists(lists)
-    if len(fars) != len(nears):
-        raise UnlikeMany()
+    want_pairs(fars, nears)
     return Team([[[number * factor for factor in near] for number in far]
                  for far, near in zip(as_rows(fars), as_rows(nears))])
 
@@ -128,6 +124,15 @@ def sign_team():
     return Team([[[0, 1, 0], [-1, 0, 0], [0, 0, 0]],
                  [[0, 0, 1], [0, 0, 0], [-1, 0, 0]],
                  [[0, 0, 0], [0, 0, 1], [0, -1, 0]]])
+
+
+def want_pairs(fars, nears):
+    """Raises InvalidLists with the first one that is no lists alike long, UnlikeMany unless both are as many."""
+    for lists in (fars, nears):
+        if not are_lists(lists, MOST_TABLES, MOST_PLACES):
+            raise InvalidLists(lists)
+    if len(fars) != len(nears):
+        raise UnlikeMany()
 
 
 def _want_letters(table, side):

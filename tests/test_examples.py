@@ -131,11 +131,44 @@ BOARDS = '''
 [2, ([0], [0]), True, False, False]
 '''
 
+PAIRS = '''
+>>> from shrunkrooms.pairs import common_lot, is_common_lot, is_cut_lot
+>>> fars, nears = [[1, 0], [1, 0], [0, 1]], [[1, 0], [0, 1], [1, 1]]
+>>> [len(common_lot(fars, nears)), is_common_lot(fars, nears, [2, 1]), is_common_lot(fars, nears, [0, 1]), is_cut_lot(fars, nears, [0, 1, 2]), is_cut_lot(fars, nears, [0])]
+[2, True, False, True, False]
+'''
+
+SIGNS = '''
+>>> from shrunkrooms.makers import sign_team
+>>> from shrunkrooms.signs import is_sign_letters, is_signs, plain_gap, sign_letters
+>>> from shrunkrooms.teams import Team
+>>> [plain_gap(sign_team()), is_signs(sign_team()), is_sign_letters(sign_team(), [[2, 0, 0], [0, 2, 0], [0, 0, 2]]), is_sign_letters(sign_team(), [[1, 0, 0], [0, 2, 0], [0, 0, 2]]), sign_letters(Team([[[1]]]))]
+[1, True, True, False, None]
+'''
+
+FADING = '''
+>>> from shrunkrooms.fading import faded, fading, is_fading
+>>> one, falls = [[1, 0], [0, 1]], Team([[[1, 0], [0, 0]], [[0, 1], [0, 0]]])
+>>> [is_fading(falls, (one, one, [1, -1], [0, 0])), is_fading(falls, (one, one, [1, 0], [0, 0])), is_fading(falls, fading(falls)), fading(Team([one]))]
+[True, False, True, None]
+>>> faded(falls, (one, one, [1, -1], [0, 0]), Ratio(1, 2)).tables()[1][0]
+[Ratio(0, 1), Ratio(1, 2)]
+'''
+
+STAYING = '''
+>>> from shrunkrooms.makers import sign_team
+>>> from shrunkrooms.staying import is_staying, stay, volume
+>>> turns = [one, [[0, 1], [0, 0]], [[0, 0], [1, 0]]]
+>>> [volume([[1, 2], [3, 4]]), stay(sign_team(), turns), stay(sign_team(), [[[1]], [[2]], [[3]]]), is_staying(sign_team(), turns), is_staying(falls, [one, one])]
+[Ratio(-2, 1), Ratio(-1, 1), Ratio(0, 1), True, False]
+'''
+
 # Names stand for what they were in the last example that gave them: so all run behind one another.
 EXAMPLES = [("ratios", RATIOS, 2), ("steps", STEPS, 3), ("teams", TEAMS, 3), ("makers", MAKERS, 4), ("tables", TABLES, 3),
             ("helpers", HELPERS, 5), ("plain", PLAIN, 2),
             ("wong", WONG, 5), ("lacks", LACKS, 3), ("most", MOST, 4), ("tight", TIGHT, 5),
-            ("blocks", BLOCKS, 3), ("alike", ALIKE, 3), ("slopes", SLOPES, 5), ("fair", FAIR, 3), ("boards", BOARDS, 3)]
+            ("blocks", BLOCKS, 3), ("alike", ALIKE, 3), ("slopes", SLOPES, 5), ("fair", FAIR, 3), ("boards", BOARDS, 3),
+            ("pairs", PAIRS, 3), ("signs", SIGNS, 4), ("fading", FADING, 4), ("staying", STAYING, 4)]
 
 
 class Examples(unittest.TestCase):
