@@ -1,10 +1,10 @@
 """Boards: rooks that spare one another, and covers of all places."""
 
-from shrunkrooms.checks import is_list, is_lot, want_many
+from shrunkrooms.checks import are_places, is_list, is_lot, is_place, want_many
 from shrunkrooms.errors import InvalidPlaces
-from shrunkrooms.makers import is_pattern, is_place
 
 MOST = 4
+MOST_PLACES = 16
 
 
 def rooks(tall, wide, places):
@@ -16,7 +16,7 @@ def rooks(tall, wide, places):
 def is_rooks(tall, wide, places, value):
     """Whether the value is rooks of the board, in any sequence."""
     _want_board(tall, wide, places)
-    if not is_list(value) or not all([is_place(tall, wide, place) and place in places for place in value]):
+    if not is_list(value) or not all([is_place(place, tall, wide) and place in places for place in value]):
         return False
     many = len(value)
     if len(set([row for row, _ in value])) < many or len(set([column for _, column in value])) < many:
@@ -74,5 +74,5 @@ def _want_board(tall, wide, places):
     """Raises InvalidMany with the first side that is out of its bounds, InvalidPlaces unless these are its places."""
     want_many(tall, 1, MOST)
     want_many(wide, 1, MOST)
-    if not is_pattern(tall, wide, places):
+    if not are_places(places, tall, wide, 1, MOST_PLACES):
         raise InvalidPlaces(places)

@@ -43,6 +43,22 @@ def are_tables(value, low, high, most):
     return all([len(table) == len(value[0]) and len(table[0]) == len(value[0][0]) for table in value])
 
 
+def is_place(value, tall, wide):
+    """Whether the value is a tuple of two COUNTS below these sides."""
+    if not isinstance(value, tuple) or len(value) != 2:
+        return False
+    return is_between(value[0], 0, tall - 1) and is_between(value[1], 0, wide - 1)
+
+
+def are_places(value, tall, wide, low, high):
+    """Whether the value is a rising list of low to high unlike tuples of two COUNTS below these sides."""
+    if not is_list(value) or not low <= len(value) <= high:
+        return False
+    if not all([is_place(place, tall, wide) for place in value]):
+        return False
+    return all([place < later for place, later in zip(value, value[1:])])
+
+
 def is_lot(value, many):
     """Whether the value is a list of unlike COUNTS below so many."""
     if not is_list(value) or not all([is_between(count, 0, many - 1) for count in value]):

@@ -15,6 +15,15 @@ def as_rows(rows):
     return [as_row(row) for row in rows]
 
 
+def renewed(value):
+    """The value with new lists and tuples, also within it."""
+    if isinstance(value, list):
+        return [renewed(part) for part in value]
+    if isinstance(value, tuple):
+        return tuple([renewed(part) for part in value])
+    return value
+
+
 def unit_rows(many):
     """The lists with 1 at one place, 0 else, for each place."""
     return [[Ratio(int(place == head)) for place in range(many)] for head in range(many)]

@@ -1,7 +1,6 @@
 """Teams that are made of teams, of rooms of them, or told by patterns and lists."""
 
-from shrunkrooms.basics import is_count
-from shrunkrooms.checks import are_lists, are_lists_of, is_list, want_many
+from shrunkrooms.checks import are_lists, are_lists_of, are_places, want_many
 from shrunkrooms.errors import (InvalidLetters, InvalidLists, InvalidNumbers, InvalidPlaces, InvalidTable, NothingLeft,
                                 TooMany, UnlikeMany)
 from shrunkrooms.lists import as_row, as_rows, dot, led, multiplied, turned
@@ -107,7 +106,7 @@ def pattern_team(tall, wide, places):
     """The team that has for each place the table with 1 there, 0 else."""
     want_many(tall, 1, MOST_PLACES)
     want_many(wide, 1, MOST_PLACES)
-    if not is_pattern(tall, wide, places):
+    if not are_places(places, tall, wide, 1, MOST_TABLES):
         raise InvalidPlaces(places)
     return Team([[[int((row, place) == spot) for place in range(wide)] for row in range(tall)] for spot in places])
 
@@ -139,19 +138,3 @@ def _want_letters(table, side):
     """Raises InvalidLetters unless the value is a table of so many rows and places that can be undone."""
     if not are_lists_of(table, side, side) or span_rank(as_rows(table)) != side:
         raise InvalidLetters(table)
-
-
-def is_pattern(tall, wide, places):
-    """Whether the value is a rising list of 1 to 16 unlike places of a table of these sides."""
-    if not is_list(places) or not 1 <= len(places) <= MOST_TABLES:
-        return False
-    if not all([is_place(tall, wide, place) for place in places]):
-        return False
-    return all([place < later for place, later in zip(places, places[1:])])
-
-
-def is_place(tall, wide, place):
-    """Whether the value is a tuple of two COUNTS below these sides."""
-    if not isinstance(place, tuple) or len(place) != 2:
-        return False
-    return is_count(place[0]) and is_count(place[1]) and place[0] < tall and place[1] < wide

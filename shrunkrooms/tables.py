@@ -7,12 +7,12 @@ from shrunkrooms.ratios import Ratio
 from shrunkrooms.spans import span_rank, span_steps
 from shrunkrooms.wholes import cleared, whole
 
-MOST = 96
+MOST_ROWS = 96
 
 
 def is_table(value):
     """Whether the value is a list of 1 to 96 rows, alike long, of 1 to 96 NUMBERS."""
-    return are_lists(value, MOST, MOST)
+    return are_lists(value, MOST_ROWS, MOST_ROWS)
 
 
 def table_rank(table):

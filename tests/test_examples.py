@@ -163,12 +163,50 @@ STAYING = '''
 [Ratio(-2, 1), Ratio(-1, 1), Ratio(0, 1), True, False]
 '''
 
+TEXTS = '''
+>>> from shrunkrooms.teams import Team
+>>> from shrunkrooms.texts import is_form, written
+>>> [written("team", Team([[[1, 0]], [[0, Ratio(1, 2)]]])), written("grid", []), written("places", [(0, 1), (2, 0)]), is_form("places", [(2, 0), (0, 1)])]
+['team 2 1 2\\nrow 1 0\\nrow 0 1/2\\n', 'grid\\n', 'places\\nat 0 1\\nat 2 0\\n', False]
+'''
+
+FORMS = '''
+>>> from shrunkrooms.forms import read
+>>> [read("team 1 1 1\\nrow 2\\n") == ("team", Team([[[2]]])), read("grid\\n"), read("places\\nat 0 3\\n"), read(written("numbers", [3, Ratio(-1, 2)]))[1] == [Ratio(3), Ratio(-1, 2)]]
+[True, ('grid', []), ('places', [(0, 3)]), True]
+'''
+
+CLAIMS = '''
+>>> from shrunkrooms.claims import contrary, is_paper_of, is_true
+>>> lost = Team([[[1, 0], [0, 0]], [[0, 1], [0, 0]]])
+>>> [is_true(("shrunk", lost)), contrary(("full", lost)) == ("shrunk", lost), is_paper_of(("lacks", lost, 1), [[1, 0], [0, 1]]), is_paper_of(("keeps", lost, 2), [[[1]], [[0]]])]
+[True, True, True, True]
+>>> [is_paper_of(("less", lost, []), [[1, 0], [0, 1]]), is_paper_of(("unfair", lost, 1, 1), [[1, 0], [0, 1]]), is_true(("lasts", lost))]
+[True, True, False]
+'''
+
+COMMANDS = '''
+>>> from shrunkrooms.commands import is_command, is_deed
+>>> [is_command("team t 1,0;0,1/2 0,0;1,0"), is_command("team t 1,0;0"), is_deed("room r t"), is_command("claim k lacks t 1"), is_deed("undo")]
+[True, False, True, True, False]
+'''
+
+DESK = '''
+>>> from shrunkrooms.desk import Desk
+>>> desk = Desk()
+>>> desk.do_all("team t 1,0;0,0 0,1;0,0", "claim k shrunk t", "lack t", "least r t", "show r", "entry t 1 1 0 1", "lack t", "loss r", "size t")
+['-', 'k true', '1', '-', '1,0 0,1', 'k false', '0', '1', '2 2 2']
+>>> [desk.do("undo"), desk.do("state k"), desk.do("room s t 1,1"), desk.do("made s"), desk.do("same r s"), desk.do("names")]
+['entry t 1 1 0 1', 'true', '-', '1,0', 'no', 'r s t']
+'''
+
 # Names stand for what they were in the last example that gave them: so all run behind one another.
 EXAMPLES = [("ratios", RATIOS, 2), ("steps", STEPS, 3), ("teams", TEAMS, 3), ("makers", MAKERS, 4), ("tables", TABLES, 3),
             ("helpers", HELPERS, 5), ("plain", PLAIN, 2),
             ("wong", WONG, 5), ("lacks", LACKS, 3), ("most", MOST, 4), ("tight", TIGHT, 5),
             ("blocks", BLOCKS, 3), ("alike", ALIKE, 3), ("slopes", SLOPES, 5), ("fair", FAIR, 3), ("boards", BOARDS, 3),
-            ("pairs", PAIRS, 3), ("signs", SIGNS, 4), ("fading", FADING, 4), ("staying", STAYING, 4)]
+            ("pairs", PAIRS, 3), ("signs", SIGNS, 4), ("fading", FADING, 4), ("staying", STAYING, 4),
+            ("texts", TEXTS, 3), ("forms", FORMS, 2), ("claims", CLAIMS, 4), ("commands", COMMANDS, 2), ("desk", DESK, 4)]
 
 
 class Examples(unittest.TestCase):

@@ -46,7 +46,8 @@ def functions(tree):
 def bound_in(node):
     """The names that a function binds: parameters, targets, nested functions."""
     found = [arg.arg for inner in ast.walk(node) if isinstance(inner, ast.arguments)
-             for arg in inner.args + inner.posonlyargs + inner.kwonlyargs]
+             for arg in inner.args + inner.posonlyargs + inner.kwonlyargs + [inner.vararg, inner.kwarg] if arg is not None]
+    found += [inner.name for inner in ast.walk(node) if isinstance(inner, ast.ExceptHandler) and inner.name is not None]
     found += [inner.id for inner in ast.walk(node) if isinstance(inner, ast.Name) and isinstance(inner.ctx, ast.Store)]
     return found
 
@@ -94,14 +95,29 @@ class Language(unittest.TestCase):
                 if isinstance(node, ast.Expr):
                     self.assertIs(node, tree.body[0], name)
                 if isinstance(node, ast.Assign):
-                    self.assertIsInstance(ast.literal_eval(node.value), (int, str, bytes, tuple, list, dict, bool), name)
+                    self.assert_plain(node, tree, name)
             found = defined(tree) + [told for _, told in imports(tree)]
             self.assertEqual(len(found), len(set(found)), name)
+
+    def assert_plain(self, node, tree, name):
+        """What is assigned at module level is a plain value, or a dict of functions that are defined above."""
+        self.assertEqual(len(node.targets), 1, name)
+        if isinstance(node.value, ast.Dict) and all(isinstance(value, ast.Name) for value in node.value.values):
+            above = [other.name for other in tree.body if isinstance(other, ast.FunctionDef) and other.lineno < node.lineno]
+            for value in node.value.values:
+                self.assertIn(value.id, above, name)
+        else:
+            value = ast.literal_eval(node.value)
+            self.assertIsInstance(value, (int, str, bytes, tuple, list, dict, bool), name)
+            if isinstance(value, dict):
+                self.assertFalse([part for part in value.values() if isinstance(part, (list, dict))], name)
 
     def test_imports(self):
         known = {f"shrunkrooms.{name[:-3]}": tree for name, tree in trees()}
         for name, tree in trees():
             self.assertEqual([node for node in ast.walk(tree) if isinstance(node, ast.Import)], [], name)
+            self.assertEqual([told.asname for node in tree.body if isinstance(node, ast.ImportFrom) for told in node.names
+                              if told.asname is not None], [], name)
             for module, told in imports(tree):
                 if module in LIBRARY:
                     self.assertIn(told, LIBRARY[module], name)
@@ -151,6 +167,23 @@ class Language(unittest.TestCase):
             for node in functions(tree):
                 if node.name.startswith("__"):
                     self.assertIn(node.name, SPECIAL, name)
+
+    def test_classes(self):
+        shown, stored = [], set()
+        for name, tree in trees():
+            for node in ast.walk(tree):
+                if isinstance(node, ast.Attribute) and isinstance(node.ctx, ast.Store):
+                    stored.add(node.attr)
+                if isinstance(node, ast.ClassDef):
+                    methods = [inner.name for inner in node.body if isinstance(inner, ast.FunctionDef)]
+                    self.assertEqual(len(methods), len(set(methods)), name)
+                    self.assertEqual("__getitem__" in methods, "__iter__" in methods, name)
+                    self.assertEqual(node.decorator_list, [], name)
+                    shown += [inner.name for inner in node.body if isinstance(inner, ast.FunctionDef)
+                              and [told.id for told in inner.decorator_list if told.id == "property"]]
+        # No class stores an attribute that has the name of a property, or `keys` beside `__getitem__`.
+        self.assertEqual(set(shown) & stored, set())
+        self.assertNotIn("keys", stored)
 
     def test_statements_and_expressions(self):
         barred = (ast.Global, ast.AsyncFunctionDef, ast.Await, ast.AsyncFor, ast.AsyncWith, ast.GeneratorExp, ast.Div,
