@@ -1,6 +1,5 @@
 """Volumes of crossed sums, which stay in all letters of volume 1."""
 
-from shrunkrooms.errors import NotSquare
 from shrunkrooms.fair import is_piece_helpers
 from shrunkrooms.helpers import crossed
 from shrunkrooms.tables import determinant
@@ -13,10 +12,7 @@ def volume(table):
 
 def stay(team, helpers):
     """The volume of the square crossed sum of a team and helpers."""
-    table = crossed(team, helpers)
-    if len(table) != len(table[0]):
-        raise NotSquare()
-    return determinant(table)
+    return determinant(crossed(team, helpers))
 
 
 def is_staying(team, value):

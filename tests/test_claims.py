@@ -308,6 +308,16 @@ class Papers(Case):
         team = in_drawn_letters(draw, stacked(draw, [SIMPLE[1][0], SIMPLE[2][0]], True))[0]
         self.assertEqual(len(paper_of(("falls", team))), 1)
 
+    def test_rooms_with_a_loss(self):
+        corner, none = Team([ONE, [[0, 1], [0, 0]]]), Team([[[0, 0], [0, 0]]])
+        for claim, value, told in [(("shrunk", LOST), [[1, 0]], False), (("shrunk", LOST), [[1, 1]], False), (("shrunk", LOST), ONE, True),
+                                   (("shrunk", LOST), [], False), (("shrunk", corner), [[1, 0]], False), (("shrunk", corner), ONE, False),
+                                   (("shrunk", none), [[1, 0]], True), (("lacks", none, 1), [[1, 0]], True), (("lacks", none, 2), [[1, 0]], False),
+                                   (("lacks", none, 2), ONE, True), (("lacks", LOST, 1), [[1, 0]], False), (("lacks", LOST, 2), ONE, False),
+                                   (("less", LOST, [[1, 0]]), ONE, True), (("less", LOST, [[1, 0]]), [[1, 1]], False), (("less", LOST, ONE), ONE, False),
+                                   (("less", none, [[1, 0]]), [[0, 1]], False), (("less", none, [[1, 0]]), ONE, True)]:
+            self.assertIs(is_paper_of(claim, value), told, (claim, value))
+
     def test_teams_of_four_places(self):
         four, lame = Team([unit(4)]), Team([unit(4)[:3] + [[0] * 4]])
         for team, full in ((four, True), (lame, False)):
